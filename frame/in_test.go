@@ -405,8 +405,7 @@ func TestInMutated(t *testing.T) {
 	r := rand.New(rand.NewSource(7))
 	for _, x := range things() {
 		for range 1000 {
-			b := mutated(r, x.bytes)
-			held(t, b)
+			held(t, mutated(r, x.bytes))
 		}
 	}
 }
@@ -419,6 +418,7 @@ func TestInTableMutated(t *testing.T) {
 	for _, u := range l {
 		for range 20000 {
 			b := mutated(r, tableBytes(u))
+			held(t, b)
 			i := frame.NewIn([]byte(b))
 			got := i.Table()
 			if i.Bad() {
